@@ -1,0 +1,1 @@
+"""Anywait: nets of gates whose waits nobody knows."""
