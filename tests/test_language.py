@@ -1,4 +1,4 @@
-"""Those rules of LANGUAGE.md that can be seen by a look at the package's files."""
+"""Some of the rules of LANGUAGE.md, as far as a look at the package's files shows them."""
 
 import ast
 import builtins
