@@ -50,6 +50,11 @@ def is_tuple(thing, fewest, most):
     return isinstance(thing, tuple) and fewest <= len(thing) <= most
 
 
+# True and False are whole numbers to Python, but none here.
+def is_number(thing, least, most):
+    return isinstance(thing, int) and not isinstance(thing, bool) and least <= thing <= most
+
+
 def is_name(thing):
     if not isinstance(thing, str) or not 1 <= len(thing) <= LONGEST_NAME:
         return False

@@ -1,8 +1,8 @@
 """Stands: their steps, which of them come, and where runs lead."""
 
 from anywait.errors import NoRun
-from anywait.nets import is_row, is_tuple, is_wire, waiting_gates, wire_names
-from anywait.talks import checked_talk, is_state_number
+from anywait.nets import is_number, is_row, is_tuple, is_wire, waiting_gates, wire_names
+from anywait.talks import checked_talk
 
 
 def steps(net, talk, stand):
@@ -35,7 +35,7 @@ def stand_behind(net, talk, run):
 def is_stand(net, talk, thing):
     if not is_tuple(thing, 2, 2):
         return False
-    return is_row(thing[0], len(net[2])) and is_state_number(thing[1], len(talk[1]))
+    return is_row(thing[0], len(net[2])) and is_number(thing[1], 0, len(talk[1]) - 1)
 
 
 def first_stand(net):

@@ -1,7 +1,7 @@
 """Talks: their form, and whether they are steady."""
 
 from anywait.errors import NoTalk
-from anywait.nets import are_wires, checked, is_tuple
+from anywait.nets import are_wires, checked, is_number, is_tuple
 
 MOST_STATES = 12
 
@@ -47,9 +47,4 @@ def is_state(state, names, number):
         return False
     if not are_wires(tuple([move[0] for move in state]), names, 0, len(names)):
         return False
-    return all([is_state_number(move[1], number) for move in state])
-
-
-# True and False are whole numbers to Python, but none here.
-def is_state_number(thing, number):
-    return isinstance(thing, int) and not isinstance(thing, bool) and 0 <= thing < number
+    return all([is_number(move[1], 0, number - 1) for move in state])

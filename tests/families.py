@@ -1,8 +1,10 @@
-"""Nets with their talks, for the tests of stands, faults, papers and goings."""
+"""Nets with their talks, for the tests of all that goes on with both."""
 
 from functools import lru_cache
 from itertools import product
 
+from anywait.faults import fault
+from anywait.talks import is_steady
 from tests.model import begin, model_steps, step_to
 from tests.samples import kinds_of, rows_of
 
@@ -169,6 +171,11 @@ def some_run(net, talk, pick, most=12):
     return run
 
 
+def some_waits(net, pick, most):
+    """Waits of one to so many."""
+    return tuple(1 + pick.below(most) for value in net[2])
+
+
 @lru_cache(maxsize=None)
 def pairs_with_runs():
     """Each pair with some of its runs, as tuples."""
@@ -176,3 +183,9 @@ def pairs_with_runs():
     return [
         (net, talk, tuple(tuple(some_run(net, talk, pick)) for again in range(5))) for net, talk in all_pairs()
     ]
+
+
+@lru_cache(maxsize=None)
+def calm_pairs():
+    """Those where net and talk are safe and the talk is steady."""
+    return [(net, talk) for net, talk in all_pairs() if is_steady(net, talk) and fault(net, talk) is None]

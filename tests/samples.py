@@ -317,3 +317,25 @@ UNSTEADY = (
         ),
     ),
 )
+
+
+def wrong_numbers(least, most):
+    """Things that are no whole numbers from the one to the other."""
+    return odd_things() + [
+        True, False, least - 1, most + 1, -1, -most, most * 10, 1.5, float(least), str(least), "1", (1,), [1], {1: 1},
+        ((),), 1 << 64, -(10 ** 400), Odd,
+    ]
+
+
+def wrong_waits(number):
+    """Things that are no waits for a net of so many wires."""
+    good = tuple(range(1, number + 1))
+    found = odd_things() + [
+        list(good), dict.fromkeys(good), set(good), good[1:], good[:-1], good + (1,), good * 2, (), (good,), 1, number,
+        "1" * number, b"1" * number, range(1, number + 1), True, iter(good), ((1,),) * number, (True,) * number,
+        (0,) * number, (100,) * number,
+    ]
+    for place in range(number):
+        for thing in wrong_numbers(1, 99):
+            found.append(good[:place] + (thing,) + good[place + 1:])
+    return found

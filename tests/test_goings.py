@@ -1,23 +1,15 @@
 import copy
 import sys
 import unittest
-from functools import lru_cache
 from itertools import permutations
 
 from anywait.errors import NoNet, NoRun, NoTalk, WaitError
-from anywait.faults import fault
 from anywait.goings import gone_on
 from anywait.stands import stand_behind, stands, steps
 from anywait.talks import is_steady
-from tests.families import Picker, all_pairs, chain, meeting, pairs_with_runs, ring, some_run
+from tests.families import Picker, all_pairs, calm_pairs, chain, meeting, pairs_with_runs, ring, some_run
 from tests.model import first_runs, model_behind, model_gone_on, model_steps, step_to, wires_of
 from tests.samples import GOOD_TALK, TALK_NET, Odd, odd_things, refusal, wrong_nets, wrong_talks
-
-
-@lru_cache(maxsize=None)
-def calm_pairs():
-    """Those where net and talk are safe and the talk is steady."""
-    return [(net, talk) for net, talk in all_pairs() if is_steady(net, talk) and fault(net, talk) is None]
 
 
 def two_runs(net, talk, seed):

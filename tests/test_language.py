@@ -155,7 +155,7 @@ class Language(unittest.TestCase):
             for name in bound_names(tree):
                 if name not in ("__init__", "__eq__", "__repr__", "__str__", "__len__"):
                     self.assertRegex(name, r"\A[A-Za-z][A-Za-z0-9_]*\Z", path)
-                self.assertFalse(hasattr(builtins, name), (path, name))
+                self.assertNotIn(name, vars(builtins), path)
                 self.assertNotIn(name, UNUSED, path)
 
     def test_pythons_own_names_and_methods(self):
@@ -172,9 +172,22 @@ class Language(unittest.TestCase):
         for path, tree in trees():
             taken = [alias.name for node in tree.body if isinstance(node, ast.ImportFrom) for alias in node.names]
             taken += [node.name for node in tree.body if isinstance(node, ast.ClassDef)]
-            for node in tree.body:
+            for node in ast.walk(tree):
                 if isinstance(node, ast.FunctionDef):
                     self.assertEqual(sorted(set(bound_names(node)) & set(taken)), [], (path, node.name))
+
+    def test_the_methods_and_values_of_objects(self):
+        of_python = {name for value in ("", 0, [], (), {}, set(), b"") for name in dir(value)}
+        methods = [part.name for path, node in nodes(ast.ClassDef) for part in node.body if hasattr(part, "name")]
+        stored = [node for path, node in nodes(ast.Attribute) if isinstance(node.ctx, ast.Store)]
+        values = [node.attr for node in stored]
+        self.assertEqual(sorted(set(methods) & set(values)), [])
+        self.assertEqual(sorted((set(methods) - {"__init__"} | set(values)) & (of_python | set(UNUSED))), [])
+        for node in stored:
+            self.assertIsInstance(node.value, ast.Name, node.attr)
+        for path, node in nodes(ast.FunctionDef):
+            if node.name == "__init__":
+                self.assertEqual([part for part in ast.walk(node) if isinstance(part, ast.Return)], [], path)
 
     def test_is_stands_beside_none_true_and_false(self):
         for path, node in nodes(ast.Compare):
